@@ -1,0 +1,1 @@
+"""Tapedonce: works that are run once, written down, and run again from their tapes."""
