@@ -106,6 +106,17 @@ def worth_of(number):
     return number
 
 
+def worth_made(sign, size, one, other):
+    """The worth that a sign makes of two worths; a quotient has no 0 behind it."""
+    if sign == "+":
+        return int(one + other) % size
+    if sign == "-":
+        return int(one - other) % size
+    if sign == "*":
+        return int(one * other) % size
+    return one // other
+
+
 def _is_side(value):
     """Whether value may stand on the other side of a Number's sign."""
     if isinstance(value, bool):

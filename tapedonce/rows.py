@@ -36,15 +36,23 @@ class Row:
         return Number(self._size, self._items[worth_of(at)])
 
     def __setitem__(self, at, worth):
-        if not self.has(at):
-            raise Fault(("index",))
-        self._items[worth_of(at)] = worth_of(worth)
+        self._set_item(at, worth)
 
     def __iadd__(self, other):
+        self._push_item(other)
+        return self
+
+    # Beside the signs, since a row of another class may do more ahead of these.
+
+    def _set_item(self, i, x):
+        if not self.has(i):
+            raise Fault(("index",))
+        self._items[worth_of(i)] = worth_of(x)
+
+    def _push_item(self, x):
         if len(self._items) == self._most:
             raise Fault(("full",))
-        self._items.append(worth_of(other))
-        return self
+        self._items.append(worth_of(x))
 
     # Without this, Python would iterate by places until a Fault comes.
     def __iter__(self):

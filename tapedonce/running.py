@@ -1,0 +1,158 @@
+"""Runs of tapes: step by step, without any choice."""
+
+from tapedonce.errors import Fault
+from tapedonce.numbers import worth_made
+from tapedonce.scenes import Scene
+from tapedonce.stands import items_in, worth_in
+
+
+class TapeRun:
+    """A run of a tape upon a scene; its calls are told by keepers."""
+
+    def __init__(self, scene, keepers, values, depth):
+        self._scene = scene
+        self._keepers = keepers
+        self._values = values
+        self._depth = depth
+        # The stand as it was when so many writes were done.
+        self._stands = [scene.stand]
+        self._answers = {}
+
+    def told(self, steps, end):
+        """What the run tells, None if it is off."""
+        try:
+            for at, step in enumerate(steps):
+                if not self._goes_on(at, step):
+                    return None
+            if end[0] == "gives":
+                return "gives", self._number(end[1])
+        # What is worked out with a fault is off.
+        except Fault:
+            return None
+        return end
+
+    def _goes_on(self, at, step):
+        """Does a step; whether the run is not off by it."""
+        word = step[0]
+        if word == "guard":
+            return self._truth(step[1]) == step[2]
+        if word == "fine":
+            self._number(step[1])
+            return True
+        if word == "put":
+            return self._written(step[1], self._number(step[2]))
+        if word == "set":
+            return self._set(self._row_name(step[1]), self._number(step[2]), self._number(step[3]))
+        if word == "push":
+            return self._pushed(self._row_name(step[1]), self._number(step[2]))
+        if word == "call":
+            told = self._called(step[1], step[2])
+            self._answers[at] = told[1]
+            return told[0] == "gives"
+        return self._brings(step[1], step[2])
+
+    def _written(self, name, thing):
+        self._scene.write(name, thing)
+        self._stands.append(self._scene.stand)
+        return True
+
+    def _set(self, name, at, worth):
+        there = self._scene.items_of(name)
+        if at >= len(there):
+            return False
+        return self._written(name, there[:at] + (worth,) + there[at + 1:])
+
+    def _pushed(self, name, worth):
+        there = self._scene.items_of(name)
+        if len(there) == self._scene.of_world.most:
+            return False
+        return self._written(name, there + (worth,))
+
+    def _called(self, name, values):
+        """What a call by a keeper tells: a write, whatever comes of it."""
+        handed = tuple([self._handed(value) for value in values])
+        told = self._keepers.told_by_keeper(name, handed, self._depth + 1)
+        self._stands.append(self._scene.stand)
+        return told
+
+    def _handed(self, value):
+        if value[0] in ("row", "arg"):
+            return self._row_name(value)
+        return self._number(value)
+
+    def _brings(self, what, word):
+        """Whether something brings a Fault with this word."""
+        if what[0] == "place":
+            return self._number(what[2]) >= len(self._items(what[1], what[3])) and word == "index"
+        if what[0] == "room":
+            return len(self._items(what[1], what[2])) == self._scene.of_world.most and word == "full"
+        if what[0] == "call":
+            told = self._called(what[1], what[2])
+            return told[0] == "faults" and told[1][0] == word
+        if what[0] == "item":
+            return self._number(what[2]) >= len(self._items(what[1], what[3])) and word == "index"
+        if what[0] == "do" and what[1] == "//":
+            self._number(what[2])
+            return self._number(what[3]) == 0 and word == "zero"
+        return False
+
+    def _row_name(self, row_list):
+        """The name of the row that a list is; a value that is a number is told as it is."""
+        if row_list[0] == "row":
+            return row_list[1]
+        return self._values[row_list[1]]
+
+    def _items(self, row_list, time):
+        return items_in(self._scene.of_world, self._stands[time], self._row_name(row_list))
+
+    def _number(self, node):
+        """The worth of a node."""
+        word = node[0]
+        if word == "known":
+            return node[1]
+        if word == "arg":
+            return self._values[node[1]]
+        if word == "cell":
+            return worth_in(self._scene.of_world, self._stands[node[2]], node[1])
+        if word == "result":
+            return self._answers[node[1]]
+        if word == "item":
+            return self._item(self._number(node[2]), self._items(node[1], node[3]))
+        size = self._scene.of_world.size
+        if word == "minus":
+            return worth_made("-", size, 0, self._number(node[1]))
+        one, other = self._number(node[2]), self._number(node[3])
+        if node[1] == "//" and other == 0:
+            raise Fault(("zero",))
+        return worth_made(node[1], size, one, other)
+
+    def _item(self, at, there):
+        if at >= len(there):
+            raise Fault(("index",))
+        return there[at]
+
+    def _truth(self, condition):
+        """Whether a condition holds; both of two conditions are worked out."""
+        word = condition[0]
+        if word in ("true", "false"):
+            return word == "true"
+        if word == "has":
+            return self._number(condition[2]) < len(self._items(condition[1], condition[3]))
+        if word == "same":
+            return self._row_name(condition[1]) == self._row_name(condition[2])
+        if word in ("equal", "less"):
+            one, other = self._number(condition[1]), self._number(condition[2])
+            return one == other if word == "equal" else one < other
+        holds, also = self._truth(condition[1]), self._truth(condition[2])
+        if word == "and":
+            return holds and also
+        return holds or also if word == "or" else holds != also
+
+
+def told_at(world, text, stand, values):
+    """What a held run of a tape without calls tells from a stand on, and what it leaves; None if it is off."""
+    scene = Scene(world, stand)
+    told = TapeRun(scene, None, values, 1).told(text[0], text[1])
+    if told is None:
+        return None
+    return told, scene.stand[0], scene.stand[1]
