@@ -153,10 +153,10 @@ class Reader:
         if part == "cell":
             return len(self._world.cells) > 0
         if part in ("answer", "number value", "row value"):
-            return len(self._numbers(part)) > 0
+            return len(self._may_be(part)) > 0
         return True
 
-    def _numbers(self, part):
+    def _may_be(self, part):
         """The numbers that may stand as such a part."""
         if part == "answer":
             return self._view.answers
@@ -184,7 +184,7 @@ class Reader:
             return self._below(2) == 1
         if part == "sign":
             return SIGNS[self._place_of([sign[0] for sign in SIGNS])]
-        return self._one_of(self._numbers(part))
+        return self._one_of(self._may_be(part))
 
     def _what(self):
         words = [word for word in ("place", "room", "call") if self._may_stand("what", word, 0)]

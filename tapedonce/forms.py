@@ -55,7 +55,7 @@ def are_kinds(value, most, with_rows):
 
 
 def are_alike(known, value):
-    """Whether any value is a known one, made of tuples, strings, integers, bools and None, to the last part."""
+    """Whether any value is a known one, made of tuples, strings, integers and bools, to the last part."""
     if isinstance(known, tuple):
         if not isinstance(value, tuple) or len(known) != len(value):
             return False
@@ -64,6 +64,4 @@ def are_alike(known, value):
         return isinstance(value, bool) and known == value
     if isinstance(known, str):
         return isinstance(value, str) and known == value
-    if known is None:
-        return value is None
     return is_whole(value, known, known + 1)

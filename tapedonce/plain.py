@@ -64,8 +64,7 @@ class PlainHand:
 
     def call(self, name, *values):
         self._tally.count_thing()
-        handed = [value if isinstance(value, Row) else worth_of(value) for value in values]
-        return Number(self._setup.world.size, self._worth_answered(name, handed))
+        return Number(self._setup.world.size, self._worth_answered(name, values))
 
     def fail(self, word):
         self._tally.count_thing()
@@ -93,7 +92,7 @@ class PlainHand:
 
     def _worth_answered(self, name, handed):
         size = self._setup.world.size
-        values = [value if isinstance(value, Row) else Number(size, value) for value in handed]
+        values = [value if isinstance(value, Row) else Number(size, worth_of(value)) for value in handed]
         work = self._setup.works[self._setup.work_number(name)][1]
         return answered(size, self._tally.run_deeper(work, self, values))
 

@@ -52,7 +52,7 @@ class Plan:
 
     def without(self, name):
         """A plan with one guard fewer."""
-        if not is_name(name) or name not in self._guards:
+        if name not in self._guards:
             raise BadPlan(name)
         return self._with_guards(tuple([guard for guard in self._guards if guard != name]))
 

@@ -35,7 +35,7 @@ class TapeRun:
         """Does a step; whether the run is not off by it."""
         word = step[0]
         if word == "guard":
-            return self._truth(step[1]) == step[2]
+            return self._is_true(step[1]) == step[2]
         if word == "fine":
             self._number(step[1])
             return True
@@ -83,14 +83,14 @@ class TapeRun:
     def _brings(self, what, word):
         """Whether something brings a Fault with this word."""
         if what[0] == "place":
-            return self._number(what[2]) >= len(self._items(what[1], what[3])) and word == "index"
+            return self._number(what[2]) >= len(self._items_at(what[1], what[3])) and word == "index"
         if what[0] == "room":
-            return len(self._items(what[1], what[2])) == self._scene.of_world.most and word == "full"
+            return len(self._items_at(what[1], what[2])) == self._scene.of_world.most and word == "full"
         if what[0] == "call":
             told = self._called(what[1], what[2])
             return told[0] == "faults" and told[1][0] == word
         if what[0] == "item":
-            return self._number(what[2]) >= len(self._items(what[1], what[3])) and word == "index"
+            return self._number(what[2]) >= len(self._items_at(what[1], what[3])) and word == "index"
         if what[0] == "do" and what[1] == "//":
             self._number(what[2])
             return self._number(what[3]) == 0 and word == "zero"
@@ -102,7 +102,7 @@ class TapeRun:
             return row_list[1]
         return self._values[row_list[1]]
 
-    def _items(self, row_list, time):
+    def _items_at(self, row_list, time):
         return items_in(self._scene.of_world, self._stands[time], self._row_name(row_list))
 
     def _number(self, node):
@@ -117,7 +117,7 @@ class TapeRun:
         if word == "result":
             return self._answers[node[1]]
         if word == "item":
-            return self._item(self._number(node[2]), self._items(node[1], node[3]))
+            return self._item(self._number(node[2]), self._items_at(node[1], node[3]))
         size = self._scene.of_world.size
         if word == "minus":
             return worth_made("-", size, 0, self._number(node[1]))
@@ -131,19 +131,19 @@ class TapeRun:
             raise Fault(("index",))
         return there[at]
 
-    def _truth(self, condition):
+    def _is_true(self, condition):
         """Whether a condition holds; both of two conditions are worked out."""
         word = condition[0]
         if word in ("true", "false"):
             return word == "true"
         if word == "has":
-            return self._number(condition[2]) < len(self._items(condition[1], condition[3]))
+            return self._number(condition[2]) < len(self._items_at(condition[1], condition[3]))
         if word == "same":
             return self._row_name(condition[1]) == self._row_name(condition[2])
         if word in ("equal", "less"):
             one, other = self._number(condition[1]), self._number(condition[2])
             return one == other if word == "equal" else one < other
-        holds, also = self._truth(condition[1]), self._truth(condition[2])
+        holds, also = self._is_true(condition[1]), self._is_true(condition[2])
         if word == "and":
             return holds and also
         return holds or also if word == "or" else holds != also

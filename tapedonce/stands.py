@@ -35,8 +35,6 @@ def is_deed(setup, value):
     if not isinstance(value, tuple) or len(value) != 3:
         return False
     word, name, rest = value
-    if not isinstance(word, str) or not isinstance(name, str):
-        return False
     if word == "change":
         return name in setup.world.loose and is_thing(setup.world, name, rest)
     number = setup.work_number(name)

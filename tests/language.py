@@ -252,6 +252,59 @@ def classes(tree):
                 yield part.lineno, "L5"
 
 
+def orders(tree):
+    """L5: beside a class with an order, sorted, min and max take what is plainly numbers or strings."""
+    for node in ast.walk(tree):
+        if isinstance(node, ast.Call) and isinstance(node.func, ast.Name) and node.func.id in ("sorted", "min", "max"):
+            if not any(is_plainly_plain(argument) for argument in node.args):
+                yield node.lineno, "L5"
+
+
+def is_plainly_plain(node):
+    """Whether an expression shows that it is a number or a string, or a list of these."""
+    if isinstance(node, ast.Constant):
+        return isinstance(node.value, (int, str))
+    if isinstance(node, ast.ListComp):
+        return is_plainly_plain(node.elt)
+    return isinstance(node, ast.Call) and isinstance(node.func, ast.Name) and node.func.id in "len int ord str repr".split()
+
+
+def operators(tree):
+    """L5: an operator, but for the in-place ones, changes nothing by +=, and assigns no attribute and no item."""
+    for node in ast.walk(tree):
+        if not isinstance(node, ast.FunctionDef) or not is_special(node.name):
+            continue
+        name = node.name.strip("_")
+        if name in ("init", "setitem", "enter", "exit", "call") or name in SIGNS and name[0] == "i":
+            continue
+        for part in ast.walk(node):
+            if isinstance(part, ast.AugAssign) or isinstance(part, (ast.Attribute, ast.Subscript)) and not isinstance(
+                    part.ctx, ast.Load):
+                yield part.lineno, "L5"
+
+
+def whole_package(trees):
+    """L5 and L18: names of properties, methods and attributes that do not go together, over all files."""
+    methods, properties, class_methods, attributes = set(), set(), set(), set()
+    for tree in trees:
+        for node in ast.walk(tree):
+            if isinstance(node, ast.Attribute) and isinstance(node.ctx, ast.Store):
+                attributes.add(node.attr)
+            for part in node.body if isinstance(node, ast.ClassDef) else ():
+                if isinstance(part, ast.FunctionDef):
+                    marks = [getattr(mark, "id", "") for mark in part.decorator_list]
+                    {"property": properties, "classmethod": class_methods}.get("".join(marks), methods).add(part.name)
+    yield from sorted((name, "a property and a method") for name in properties & (methods | class_methods))
+    yield from sorted((name, "a property and an attribute") for name in properties & attributes)
+    yield from sorted((name, "a class method and a method") for name in class_methods & methods)
+    yield from sorted((name, "a method and an attribute") for name in methods & attributes)
+    builtin = {name for value in ("", b"", 0, [], {}, ()) for name in dir(value)}
+    allowed = {"count", "index", "title", "find", "get", "join", "lower", "upper", "split", "strip", "copy", "add"}
+    yield from sorted((name, "of builtin values") for name in (methods | class_methods | properties) & builtin
+                      if not is_special(name))
+    yield from sorted((name, "of builtin values") for name in attributes & builtin - allowed)
+
+
 def own_methods(tree):
     """The names of the methods of a file's classes."""
     found = [node for node in ast.walk(tree) if isinstance(node, ast.ClassDef)]
@@ -263,6 +316,6 @@ def breaches(text, own=()):
     tree = ast.parse(text)
     methods = [*own, *own_methods(tree)]
     found = [*sizes(text), *words(text), *calls(tree, methods)]
-    for check in (module_level, imports, statements, names, functions, classes):
+    for check in (module_level, imports, statements, names, functions, classes, orders, operators):
         found += check(tree)
     return sorted({*found})

@@ -164,7 +164,7 @@ class Near(unittest.TestCase, Refusing):
                 return tuple(swapped(part, old, new) for part in thing)
             return new if type(thing) is type(old) and thing == old else thing
 
-        for old, new in ((0, False), (1, True), (True, 1), (False, 0), (0, Number(2, 0)), (1, Number(2, 1)), ("g", "h"), ("known", b"known")):
+        for old, new in ((True, False), (False, True), (0, 1), (1, 0), (0, 2), (0, None), ("g", None), (0, False), (1, True), (True, 1), (False, 0), (0, Number(2, 0)), (1, Number(2, 1)), ("g", "h"), ("known", b"known")):
             value = swapped(found, old, new)
             self.assertIs(shows_right(self.setup, plan, value), repr(value) == repr(found))
             self.assertIs(shows_right(self.setup, plan, value), old == "g")

@@ -5,7 +5,7 @@ import re
 import unittest
 from pathlib import Path
 
-from tests.language import breaches, own_methods
+from tests.language import breaches, own_methods, whole_package
 
 PACKAGE = Path(__file__).resolve().parent.parent / "tapedonce"
 
@@ -18,6 +18,10 @@ BROKEN = {
         "class Box:\n    def __hash__(self):\n        return 1\n",
         "class Box:\n    def __add__(self, by):\n        return self\n",
         "class Box:\n    def __getitem__(self, at):\n        return at\n",
+        "def told(xs):\n    return sorted(xs)\n",
+        "def told(xs):\n    return max(xs)\n",
+        "class Box:\n    def __add__(self, other):\n        other.many = 1\n        return self\n",
+        "class Box:\n    def __add__(self, other):\n        x = 1\n        x += other\n        return x\n",
     ],
     "L6": ["def told():\n    global COUNT\n    return 1\n"],
     "L7": [
@@ -66,6 +70,10 @@ class Package(unittest.TestCase):
             with self.subTest(file=name):
                 self.assertEqual(breaches(text, own), [])
 
+    def test_no_names_of_classes_clash(self):
+        trees = [ast.parse(path.read_text(encoding="utf-8")) for path in files()]
+        self.assertEqual(list(whole_package(trees)), [])
+
     def test_imports_name_the_file_that_defines_and_make_no_ring(self):
         trees = {path.stem: ast.parse(path.read_text(encoding="utf-8")) for path in files()}
         ways = {name: [] for name in trees}
@@ -99,6 +107,16 @@ class Checks(unittest.TestCase):
             for text in texts:
                 with self.subTest(rule=rule, text=text[:60]):
                     self.assertIn(rule, [told for _, told in breaches(text)])
+
+    def test_names_that_clash_are_seen(self):
+        box = "class Box:\n    @property\n    def many(self):\n        return 1\n"
+        for text in (
+            "class Other:\n    def many(self):\n        return 1\n", "def told(other):\n    other.many = 1\n",
+            "class Other:\n    def few(self):\n        self.few = 1\n", "class Other:\n    def title(self):\n        return 1\n",
+            "class Other:\n    @classmethod\n    def few(cls):\n        return 1\n\nclass More:\n    def few(self):\n        return 2\n",
+        ):
+            self.assertEqual(len(list(whole_package([ast.parse(box), ast.parse(text)]))), 1, text)
+        self.assertEqual(list(whole_package([ast.parse(box)])), [])
 
     def test_a_plain_text_passes(self):
         text = '"""A file."""\n\nfrom tapedonce.numbers import Number\n\nSIZES = (2, 3)\n\n\n'

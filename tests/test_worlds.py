@@ -213,10 +213,13 @@ class Setups(unittest.TestCase, Refusing):
         return wrong + [(("w", work, kind),) for kind in kinds]
 
     def test_what_are_no_works(self):
+        for kind in [chr(sign) for sign in range(32, 127) if chr(sign) != "n"]:
+            value = (("w", work, kind),)
+            self.refused(BadSetup, value, Setup, self.bare, value, 1)
         for value in self.wrong_works():
             self.refused(BadSetup, value, Setup, self.bare, value, 1)
             self.refused(BadSetup, value, Setup, room=2, works=value, world=self.bare)
-        for kind in ("rrrr", "nnnr", "R"):
+        for kind in [chr(sign) for sign in range(32, 127) if chr(sign) not in "nr"] + ["rrrr", "nnnr", "R"]:
             value = (("w", work, kind),)
             self.refused(BadSetup, value, Setup, self.with_row, value, 1)
         value = (("a", work, "r"), ("b", work, "s"))
