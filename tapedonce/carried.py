@@ -170,23 +170,23 @@ class CarriedRow:
 
     def __init__(self, run, name, place):
         self._run = run
+        self._row_at = run.scene.of_world.row_number(name)
         self._last = None
         self.name = name
         self.place = place
 
     def has(self, i):
         """Whether there is an item at place i, a condition."""
-        index = self._run.carried(i)
-        truth = index.worth < len(self._run.items_of(self.name))
+        index = as_carried(self._run.of_size, i)
+        truth = index.worth < len(self._there())
         return Condition(truth, ("has", self.place, index.node, self._run.time))
 
     def __len__(self):
-        return len(self._run.items_of(self.name))
+        return len(self._there())
 
     def __getitem__(self, at):
-        index = self._run.carried(at)
+        index, items = as_carried(self._run.of_size, at), self._there()
         node = ("item", self.place, index.node, self._run.time)
-        items = self._run.items_of(self.name)
         if index.worth >= len(items):
             raise CarriedFault(("index",), node)
         worth = items[index.worth]
@@ -195,8 +195,8 @@ class CarriedRow:
     def __setitem__(self, at, worth):
         run = self._run
         run.tally.count_thing()
-        index, number = run.carried(at), run.carried(worth)
-        items = run.items_of(self.name)
+        index, number = as_carried(run.of_size, at), as_carried(run.of_size, worth)
+        items = self._there()
         if index.worth >= len(items):
             raise CarriedFault(("index",), ("place", self.place, index.node, run.time))
         items = items[:index.worth] + (number.worth,) + items[index.worth + 1:]
@@ -206,9 +206,8 @@ class CarriedRow:
     def __iadd__(self, other):
         run = self._run
         run.tally.count_thing()
-        number = run.carried(other)
-        items = run.items_of(self.name)
-        if len(items) == run.most_items:
+        number, items = as_carried(run.of_size, other), self._there()
+        if len(items) == run.scene.of_world.most:
             raise CarriedFault(("full",), ("room", self.place, run.time))
         run.write_row(self.name, items + (number.worth,), ("push", self.place, number.node))
         self._last = None
@@ -217,6 +216,10 @@ class CarriedRow:
     # Without this, Python would iterate by places until a Fault comes.
     def __iter__(self):
         raise TypeError("a row is not iterated over")
+
+    def _there(self):
+        """The items of the world's row as they are now."""
+        return self._run.scene.stand[1][self._row_at]
 
     def _known_node(self, index_node, worth):
         """The node that was set last by the same index, None if a tape does not know the item by it."""

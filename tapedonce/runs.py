@@ -14,23 +14,15 @@ class TapingRun:
 
     def __init__(self, keepers, depth):
         self._keepers = keepers
-        self._scene = keepers.scene
         self._lines = []
         self._named = {}
         self._last_put = {}
         self.knows = keepers.by_plan.known
-        self.most_items = keepers.of_setup.world.most
+        self.scene = keepers.scene
+        self.of_size = keepers.of_setup.world.size
         self.tally = Tally(depth)
         self.time = 0
         self.own_calls = 0
-
-    def carried(self, number):
-        """A number as it is carried."""
-        return as_carried(self._scene.of_world.size, number)
-
-    def items_of(self, name):
-        """The items of a row of the world now."""
-        return self._scene.items_of(name)
 
     def has_guard(self, name):
         """Whether the plan has a guard of this name."""
@@ -47,21 +39,21 @@ class TapingRun:
 
     def write_row(self, name, worths, step):
         """Changes a row of the world, and writes how."""
-        self._scene.write(name, worths)
+        self.scene.write(name, worths)
         self._lines.append(step)
         self.time = self.time + 1
 
     def cell(self, name):
         """The number of a cell, known if it was put there and no other run came between."""
-        worth = self._scene.worth_of(name)
+        worth = self.scene.worth_of(name)
         node, own_calls = self._last_put.get(name, (None, None))
         if not self.knows or own_calls != self.own_calls:
             node = ("cell", name, self.time)
-        return Carried(self._scene.of_world.size, worth, node)
+        return Carried(self.of_size, worth, node)
 
     def put(self, name, number):
         """Puts a carried number into a cell, and writes it."""
-        self._scene.write(name, number.worth)
+        self.scene.write(name, number.worth)
         self._lines.append(("put", name, number.node))
         self.time = self.time + 1
         self._last_put[name] = (number.node, self.own_calls)
@@ -79,14 +71,14 @@ class TapingRun:
             if kinds[at] == "r":
                 found.append(CarriedRow(self, value, ("arg", at)))
             else:
-                found.append(Carried(self._scene.of_world.size, value, ("arg", at)))
+                found.append(Carried(self.of_size, value, ("arg", at)))
         return found
 
     def answer_of(self, value):
         """The carried number that a work answers; what is none is a fault."""
         if isinstance(value, Carried):
             return value
-        return self.carried(answered(self._scene.of_world.size, value))
+        return as_carried(self.of_size, answered(self.of_size, value))
 
     def call_here(self, hand, name, handed):
         """The answer of a work that is run on this tape."""
@@ -105,14 +97,14 @@ class TapingRun:
         if told[0] == "faults":
             raise CarriedFault(told[1], ("call", name, noted))
         self._lines.append(("call", name, noted))
-        return Carried(self._scene.of_world.size, told[1], ("result", len(self._lines) - 1))
+        return Carried(self.of_size, told[1], ("result", len(self._lines) - 1))
 
     def text(self, kinds, end):
         """The tape's text, None if there is none."""
         if end[0] == "faults" and end[1][0] == LONG:
             return None
         steps = tuple(self._lines)
-        if not is_text(self._scene.of_world, kinds, steps, end):
+        if not is_text(self.scene.of_world, kinds, steps, end):
             return None
         return steps, end
 
@@ -147,7 +139,7 @@ class TapingHand:
 
     def put(self, name, x):
         self._run.tally.count_thing()
-        self._run.put(name, self._run.carried(x))
+        self._run.put(name, as_carried(self._run.of_size, x))
 
     def row(self, name):
         self._run.tally.count_thing()
@@ -160,7 +152,7 @@ class TapingHand:
     def call(self, name, *values):
         run = self._run
         run.tally.count_thing()
-        handed = [value if isinstance(value, CarriedRow) else run.carried(value) for value in values]
+        handed = [value if isinstance(value, CarriedRow) else as_carried(run.of_size, value) for value in values]
         if run.is_own(name):
             return run.call_by_keeper(name, handed)
         return run.call_here(self, name, handed)

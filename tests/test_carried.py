@@ -191,10 +191,14 @@ class Numbers(Looking):
     def test_what_is_no_side_is_left_to_python(self):
         x = looks(lambda hand, x: x, "n", (1,))
         for other in ("1", None, True, (1,), [1]):
-            for act in SIGNS.values():
+            ordering = [COMPARISONS[sign] for sign in ("<", "<=", ">", ">=")]
+            for act in [*SIGNS.values(), *ordering]:
                 with self.assertRaises(TypeError):
                     act(x, other)
-            self.assertFalse(x == other)
+                with self.assertRaises(TypeError):
+                    act(other, x)
+            self.assertIs(x == other, False)
+            self.assertIs(x != other, True)
 
 
 class Conditions(Looking):
@@ -229,6 +233,15 @@ class Conditions(Looking):
         left = ("and", ("equal", x, known(1)), ("less", x, known(2)))
         self.check_condition(found[0], True, ("or", left, ("unlike", TRUE, ("less", known(0), x))))
         self.check_condition(found[1], True, ("or", FALSE, ("and", TRUE, ("unlike", ("equal", x, known(3)), TRUE))))
+
+    def test_what_is_no_truth_is_left_to_python(self):
+        condition = looks(lambda hand, x: x == 1, "n", (1,))
+        for other in ("1", None, 1, (1,), Number(4, 1)):
+            for act in (operator.and_, operator.or_, operator.xor):
+                with self.assertRaises(TypeError):
+                    act(condition, other)
+                with self.assertRaises(TypeError):
+                    act(other, condition)
 
     def test_bool_decides(self):
         for worth in range(4):

@@ -302,6 +302,8 @@ class Refused(unittest.TestCase, Refusing):
         for tape in tapes:
             for values in ((), (0,), None):
                 self.refused(BadTape, tape, run_tape, self.setup, plan, state, tape, values)
+        for value in any_values():
+            self.refused(BadTape, value, run_tape, self.setup, plan, state, value, ())
         alike = World(3, 2, (("c", 1),), (("p", (1,)), ("q", ())), ("c",))
         self.assertEqual(run_tape(self.setup, plan, state, Tape(alike, "", (), ("gives", ONE)), ())[0], ("gives", 1))
         tape = Tape(self.world, "r", (("call", "b", (X,)),), ("gives", ("result", 0)))

@@ -443,6 +443,19 @@ class Faults(Written):
                  ("fails", ("room", X, 0), "full"))
         self.check_way(work, steps, ("faults", ("full", "no", "index")))
 
+    def test_the_word_that_is_told_is_the_first(self):
+        words = []
+
+        def work(hand, row, x):
+            def look():
+                return hand.tried(lambda: row[3], lambda word: words.append(word) or 3 // x)
+
+            return hand.tried(look, lambda word: words.append(word) or 1)
+
+        steps = (("fails", ("item", X, ("known", 3), 0), "index"), ("fails", ("do", "//", ("known", 3), Y), "zero"))
+        self.check_way(work, steps, ("gives", ONE))
+        self.assertEqual(words, ["index", "zero"] * 2)
+
     def test_signs_of_known_nodes_write_nothing(self):
         def work(hand):
             hand.put("c", 0)
@@ -635,6 +648,59 @@ class NoTape(Written):
         self.none(things(41), ("faults", ("long",)))
         self.none(lambda hand: hand.tried(lambda: hand.fail("a"), lambda word: things(40)(hand)), ("faults", ("long", "a")))
         self.none(lambda hand: hand.fail("long"), ("faults", ("long",)))
+
+    def test_each_thing_is_counted(self):
+        ways = [
+            lambda hand, row: hand.holds(True, "g"), lambda hand, row: hand.fine(1, "g"), lambda hand, row: hand.cell("c"),
+            lambda hand, row: hand.put("c", 3), lambda hand, row: hand.row("p"), lambda hand, row: hand.same(row, row),
+            lambda hand, row: hand.call("other"), lambda hand, row: hand.tried(lambda: 1, lambda word: 1),
+            lambda hand, row: row.__setitem__(0, 2), lambda hand, row: row.__iadd__(2), lambda hand, row: hand.fail("no"),
+        ]
+        for way, ahead, own in itertools.product(ways, (0, 39, 40), ((), ("other",))):
+            def work(hand, row):
+                for _ in range(ahead):
+                    hand.cell("c")
+                way(hand, row)
+                return 1
+
+            setup = several(other=(lambda hand: [hand.put("d", 2), 0][1], ""), work=(work, "r"))
+            found = taped(setup, Plan(own=own), setup.world.first, "work", ("p",))
+            self.assertEqual(found[:2], plainly(setup, setup.world.first, ("call", "work", ("p",))))
+            if ahead == 40:
+                self.assertEqual((found[0], found[1], found[2]), (("faults", ("long",)), setup.world.first, None))
+            else:
+                self.assertNotEqual(found[0], ("faults", ("long",)))
+                self.assertIsNotNone(found[2])
+
+    def test_things_of_a_called_work_are_its_own(self):
+        def inner(hand, row):
+            for _ in range(39):
+                hand.cell("c")
+            row[0] = 3
+            return 1
+
+        def outer(hand, row):
+            for _ in range(39):
+                hand.cell("c")
+            return hand.call("inner", row)
+
+        for own in ((), ("inner",)):
+            setup = several(inner=(inner, "r"), outer=(outer, "r"))
+            found = taped(setup, Plan(own=own), setup.world.first, "outer", ("p",))
+            self.assertEqual(found[:2], (("gives", 1), ((1, 0), ((3,), ()))))
+
+    def test_a_long_with_a_cause_is_taken_by_no_other(self):
+        def other(word):
+            raise AssertionError(word)
+
+        def work(hand):
+            def inner(word):
+                for _ in range(41):
+                    hand.cell("c")
+
+            return hand.tried(lambda: hand.tried(lambda: hand.fail("a"), inner), other)
+
+        self.none(work, ("faults", ("long", "a")))
 
     def test_a_work_on_this_tape_or_own_that_is_long(self):
         def inner(hand):
