@@ -49,7 +49,7 @@ class TapeRun:
             told = self._called(step[1], step[2])
             self._answers[at] = told[1]
             return told[0] == "gives"
-        return self._brings(step[1], step[2])
+        return self._word_of(step[1]) == step[2]
 
     def _written(self, name, thing):
         self._scene.write(name, thing)
@@ -76,28 +76,27 @@ class TapeRun:
         return told
 
     def _handed(self, value):
-        if value[0] in ("row", "arg"):
-            return self._row_name(value)
+        if value[0] == "row":
+            return value[1]
+        # What was handed in is told as it is, a number or the name of a row.
         return self._number(value)
 
-    def _brings(self, what, word):
-        """Whether something brings a Fault with this word."""
-        if what[0] == "place":
-            return self._number(what[2]) >= len(self._items_at(what[1], what[3])) and word == "index"
+    def _word_of(self, what):
+        """The word of the Fault that something raises, None if it raises none; its parts are worked out first."""
+        if what[0] in ("place", "item"):
+            return "index" if self._number(what[2]) >= len(self._items_at(what[1], what[3])) else None
         if what[0] == "room":
-            return len(self._items_at(what[1], what[2])) == self._scene.of_world.most and word == "full"
+            return "full" if len(self._items_at(what[1], what[2])) == self._scene.of_world.most else None
         if what[0] == "call":
             told = self._called(what[1], what[2])
-            return told[0] == "faults" and told[1][0] == word
-        if what[0] == "item":
-            return self._number(what[2]) >= len(self._items_at(what[1], what[3])) and word == "index"
+            return told[1][0] if told[0] == "faults" else None
         if what[0] == "do" and what[1] == "//":
             self._number(what[2])
-            return self._number(what[3]) == 0 and word == "zero"
-        return False
+            return "zero" if self._number(what[3]) == 0 else None
+        return None
 
     def _row_name(self, row_list):
-        """The name of the row that a list is; a value that is a number is told as it is."""
+        """The name of the row that a list is."""
         if row_list[0] == "row":
             return row_list[1]
         return self._values[row_list[1]]
