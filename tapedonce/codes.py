@@ -34,7 +34,7 @@ class Writer:
     def written(self, steps, end):
         """The bytes of the whole tape."""
         kinds = self._view.of_kinds
-        self._bytes = [len(kinds)] + [ord(kind) for kind in kinds] + [len(steps)]
+        self._bytes.extend([len(kinds)] + [ord(kind) for kind in kinds] + [len(steps)])
         for step in steps:
             self._write("step", step)
         self._write("end", end)
@@ -148,7 +148,7 @@ class Reader:
         """Whether there is anything that such a part of a thing could be."""
         if part in ("node", "condition"):
             return depth < MOST_DEPTH
-        if part in ("list", "row"):
+        if part == "list":
             return len(self._world.rows) > 0
         if part == "cell":
             return len(self._world.cells) > 0

@@ -103,7 +103,7 @@ class Lot:
         return len(self._tapes)
 
     def __contains__(self, x):
-        return isinstance(x, Tape) and any([tape == x for tape in self._tapes])
+        return any([tape == x for tape in self._tapes])
 
     def __getitem__(self, at):
         if not is_whole(at, 0, len(self._tapes)):
@@ -119,7 +119,7 @@ class Lot:
 
     # Without this, Python would iterate by places until a BadPlace comes.
     def __iter__(self):
-        raise TypeError("the tapes of a lot are iterated over")
+        raise TypeError("a lot is not iterated over, its tapes are")
 
     def __iadd__(self, other):
         if not is_like(self._tapes[0], other):
@@ -134,8 +134,8 @@ class Lot:
 
 
 def is_like(first, value):
-    """Whether any value is a tape that may stand in one lot with the first one."""
-    if not isinstance(value, Tape) or not isinstance(first, Tape) or has_call(value.steps):
+    """Whether any value is a tape that may stand in a lot behind the first one, if that one is a tape."""
+    if not isinstance(value, Tape) or has_call(value.steps):
         return False
     return first.world == value.world and first.kinds == value.kinds
 

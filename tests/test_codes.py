@@ -12,6 +12,7 @@ from tests.test_tapes import AHEAD, BARE, CONDITIONS, ENDS, GIVES, KINDS, NODES,
 from tests.values import any_values
 
 LETTERS = "abcdefghijklmnopqrstuvwxyz"
+X = ("arg", 0)
 
 
 def signs(text):
@@ -357,9 +358,33 @@ class Reading(Codes):
         for letter in b"h=":
             self.raises(BadBytes, "at", 10, Tape.read, WORLD, chain + bytes([letter]))
         self.raises(BadBytes, "at", 11, Tape.read, WORLD, chain + b"@")
+        self.check_depth_of_nodes()
         self.raises(BadBytes, "at", 11, Tape.read, BARE, chain + b"T")
         self.raises(BadBytes, "at", 12, Tape.read, BARE, b"\x00\x01g=" + b"m" * 6 + b"k\x00G")
         self.raises(BadBytes, "at", 10, Tape.read, BARE, b"\x00\x01g=" + b"m" * 7)
+
+    def check_depth_of_nodes(self):
+        """Eight deep in each place where a node may stand, and nine."""
+        lead = b"\x00\x01"
+        places = [(b"\x00\x00G", b""), (lead + b"f", b"Gk\x00"), (lead + b"xN", b"\x01aGk\x00"), (lead + b"c\x01w\x01v", b"Gk\x00")]
+        places += [(lead + b"xC\x01w\x01v", b"\x01aGk\x00"), (lead + b"xPW\x00", b"\x00\x01aGk\x00"), (lead + b"pW\x00", b"Gk\x00")]
+        places += [(lead + b"sW\x00", b"k\x00Gk\x00"), (lead + b"sW\x00k\x00", b"Gk\x00"), (lead + b"u\x00", b"Gk\x00")]
+        for ahead, behind in places:
+            data = ahead + b"m" * 7 + b"k\x01" + behind
+            self.assertEqual(Tape.read(WORLD, data).written(), data)
+            for letter in b"mdi":
+                self.raises(BadBytes, "at", len(ahead) + 7, Tape.read, WORLD, ahead + b"m" * 7 + bytes([letter]) + data)
+        for ahead in (lead + b"g=", lead + b"g=k\x00", lead + b"g<", lead + b"ghW\x00"):
+            self.raises(BadBytes, "at", len(ahead) + 6, Tape.read, WORLD, ahead + b"m" * 7)
+            self.raises(BadBytes, "at", len(ahead) + 7, Tape.read, WORLD, ahead + b"m" * 6 + b"k")
+
+    def test_all_bytes_at_a_place_where_there_is_nothing(self):
+        steps = (("fine", ("do", "//", X, ("known", 1))), ("guard", ("less", X, ("minus", X)), True), ("fails", ("known", 0), "q"))
+        for tape in (Tape(BARE, "n", steps, ("faults", ("a", "bc"))), Tape(BARE, "nn", (("call", "w", (X,)),), ("gives", ("result", 0)))):
+            data = tape.written()
+            for at in range(len(data)):
+                for byte in range(256):
+                    self.check_bytes(BARE, data[:at] + bytes([byte]) + data[at + 1:])
 
     def test_what_is_no_bytes(self):
         for value in any_values() + ["", "\x00", [0, 0, 71, 107, 0], (0, 0, 71, 107, 0), GIVES, Tape(BARE, "", (), GIVES)]:

@@ -11,7 +11,7 @@ from tapedonce.plans import Plan
 from tapedonce.tapes import Tape
 from tapedonce.taping import taped
 from tapedonce.worlds import Setup, World
-from tests.making import Refusing, setup_of, small_world, tape_of
+from tests.making import Refusing, looks, setup_of, small_world, tape_of
 from tests.reckoning import Field, taping
 from tests.scripts import GUARDS, Maker, work_of
 from tests.values import any_values
@@ -316,6 +316,18 @@ class Known(Written):
         self.item(work, ("known", 3), "rn", ("p", 0))
         self.layers = 9
         self.assertIsNone(tape_of(work, "rn", ("p", 0), self.plan)[2])
+
+    def test_what_such_an_index_knows(self):
+        for layers, node in ((7, ("known", 3)), (8, ("known", 3)), (9, None), (10, None)):
+            def work(hand, row, x):
+                index = x
+                for _ in range(layers - 1):
+                    index = -index
+                row[index] = 3
+                return index.node, row[index].node
+
+            index, found = looks(work, "rn", ("p", 0), self.plan)
+            self.assertEqual(found, node or ("item", X, index, 1))
 
     def test_much_deeper_indexes_are_compared_soon(self):
         def work(hand, row, x):
