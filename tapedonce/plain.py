@@ -82,7 +82,8 @@ class PlainHand:
 
     def outermost(self, name, values):
         """The worth that a work answers which is not called by a work."""
-        return self._worth_answered(name, [self._by_name.get(value, value) for value in values])
+        handed = [self._by_name[value] if isinstance(value, str) else value for value in values]
+        return self._worth_answered(name, handed)
 
     def left(self):
         """The stand as it is now."""
