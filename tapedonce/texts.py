@@ -113,10 +113,10 @@ def is_text(world, kinds, steps, end):
 
 
 def is_shallow(node, depth=MOST_DEPTH):
-    """Whether a node is at most so deep."""
+    """Whether a number's node is at most so deep."""
     if depth == 0:
         return False
-    # A list in a node counts as a node here: a node that has one has a node beside it, at least as deep.
+    # A list in it counts as a node here: a number's node that has one has a node beside it, at least as deep.
     return all([is_shallow(part, depth - 1) for part in node if isinstance(part, tuple)])
 
 
@@ -132,8 +132,11 @@ def _is_of_sort(view, sort, value, depth):
 
 
 def _is_part(view, part, value, depth):
-    if part in ("node", "condition", "list"):
+    if part in ("node", "condition"):
         return _is_of_sort(view, part, value, depth + 1)
+    if part == "list":
+        # A list is no depth of its own: a condition same with two of them is one deep.
+        return _is_of_sort(view, part, value, 0)
     if part == "values":
         return isinstance(value, tuple) and len(value) <= MOST_VALUES and all([_is_handed(view, x) for x in value])
     if part == "words":
@@ -150,7 +153,7 @@ def _is_part(view, part, value, depth):
 
 
 def _is_handed(view, value):
-    return _is_of_sort(view, "node", value, 1) or _is_of_sort(view, "list", value, 1)
+    return _is_of_sort(view, "node", value, 1) or _is_of_sort(view, "list", value, 0)
 
 
 def _is_named(view, part, value):

@@ -358,6 +358,10 @@ class Reading(Codes):
         for letter in b"h=":
             self.raises(BadBytes, "at", 10, Tape.read, WORLD, chain + bytes([letter]))
         self.raises(BadBytes, "at", 11, Tape.read, WORLD, chain + b"@")
+        for lists in (b"W\x00W\x01", b"A\x01W\x00", b"W\x01A\x01", b"A\x01A\x01"):
+            data = b"\x02nr\x01g" + b"^" * 7 + b"@" + lists + b"T" * 7 + b"\x01Gk\x00"
+            self.assertEqual(Tape.read(WORLD, data).written(), data)
+            self.raises(BadBytes, "at", 12, Tape.read, WORLD, data[:5] + b"^" * 8 + data[12:])
         self.check_depth_of_nodes()
         self.raises(BadBytes, "at", 11, Tape.read, BARE, chain + b"T")
         self.raises(BadBytes, "at", 12, Tape.read, BARE, b"\x00\x01g=" + b"m" * 6 + b"k\x00G")

@@ -247,6 +247,21 @@ class Bounds(Checking):
                 within = ("and", ("true",), ("unlike", within, ("true",)))
                 self.assertEqual(self.check(WORLD, KINDS, (("guard", within, True),), GIVES), depth < 6)
 
+    def test_a_condition_same_is_one_deep(self):
+        lists = (("row", "p"), ("row", "q"), ("arg", KINDS.index("r")))
+        for one in lists:
+            for other in lists:
+                for word, depth in ((word, depth) for word in ("and", "or", "unlike") for depth in range(1, 11)):
+                    left = right = ("same", one, other)
+                    for _ in range(depth - 1):
+                        left, right = (word, left, ("true",)), (word, ("false",), right)
+                    for condition in (left, right):
+                        self.assertEqual(self.check(WORLD, KINDS, (("guard", condition, True),), GIVES), depth <= 8)
+        wrong = ("same", ("row", "p"), ("row", "c"))
+        for _ in range(7):
+            self.assertFalse(self.check(WORLD, KINDS, (("guard", wrong, True),), GIVES))
+            wrong = ("and", wrong, ("true",))
+
     def test_what_is_much_too_deep_is_refused_soon(self):
         node, condition = ("arg", 0), ("true",)
         for _ in range(29):
