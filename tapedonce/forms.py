@@ -46,6 +46,15 @@ def are_names(value, most):
     return all([is_name(name) for name in value]) and are_rising(value)
 
 
+def are_pairs(value, most):
+    """Whether value is a tuple of at most so many pairs that begin with rising names."""
+    if not isinstance(value, tuple) or len(value) > most:
+        return False
+    if not all([isinstance(pair, tuple) and len(pair) == 2 and is_name(pair[0]) for pair in value]):
+        return False
+    return are_rising([pair[0] for pair in value])
+
+
 def are_kinds(value, most, with_rows):
     """Whether value is a string of at most so many kinds, rows among them only if there are some."""
     if not isinstance(value, str) or len(value) > most:

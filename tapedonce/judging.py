@@ -12,13 +12,29 @@ from tapedonce.stands import is_deed
 MOST_STATES = 300
 
 
+class PlainRuns:
+    """What plain runs of a setup tell and leave: each deed is done once at each stand, whatever the plans are."""
+
+    def __init__(self, setup):
+        self._setup = setup
+        self._by_stand = {}
+
+    def plain(self, stand, deed):
+        """What plainly tells of a deed at a stand."""
+        at_stand = self._by_stand.setdefault(stand, {})
+        if deed not in at_stand:
+            at_stand[deed] = done_plainly(self._setup, stand, deed)
+        return at_stand[deed]
+
+
 class Search:
     """Goes through the states to which deeds lead, level by level."""
 
-    def __init__(self, setup, plan):
+    def __init__(self, setup, plan, runs):
         first = first_state(setup)
         self._setup = setup
         self._plan = plan
+        self._runs = runs
         self._level = [(first, ())]
         # By their signs, since states are too deep to be keys themselves.
         self._met = {repr(first): first}
@@ -38,8 +54,8 @@ class Search:
         behind = []
         for state, story in self._level:
             for deed in self._setup.deeds:
-                after = done_by_keepers(self._setup, self._plan, state, deed)
-                if is_wrong(self._setup, state, deed, after):
+                after = done_by_keepers(self._setup, self._plan, self._setup.places, state, deed)
+                if is_wrong(self._runs.plain(state[0], deed), after):
                     return (*story, deed)
                 sign = repr(after[1])
                 if sign not in self._met:
@@ -49,18 +65,21 @@ class Search:
         return None
 
 
-def is_wrong(setup, state, deed, after):
-    """Whether a deed that told and left so much by keepers is wrong."""
-    if deed[0] == "change":
-        return False
-    told, stand = done_plainly(setup, state[0], deed)
-    return told != after[0] or stand != after[1][0]
+def is_wrong(plain, after):
+    """Whether a deed is wrong that tells and leaves so much plainly, and by keepers."""
+    # A change leaves the same always, so that only calls are wrong.
+    return plain != (after[0], after[1][0])
 
 
 def right(setup, plan):
     """("right", states) if every call is right behind every row of deeds, otherwise ("wrong", story)."""
     check_fit(setup, plan)
-    return Search(setup, plan).result()
+    return judged(setup, plan, PlainRuns(setup))
+
+
+def judged(setup, plan, runs):
+    """What right tells of a plan that fits, by plain runs that may be those of other plans, too."""
+    return Search(setup, plan, runs).result()
 
 
 def shows_right(setup, plan, value):
@@ -70,9 +89,14 @@ def shows_right(setup, plan, value):
         return are_alike(found, value)
     if not isinstance(value, tuple) or len(value) != 2 or not are_alike("wrong", value[0]):
         return False
-    if not are_deeds(setup, value[1]) or len(value[1]) != len(found[1]):
+    return shows_wrong(setup, plan, len(found[1]), value[1])
+
+
+def shows_wrong(setup, plan, many, value):
+    """Whether any value is a story of so many deeds, the fewest that go wrong."""
+    if not are_deeds(setup, value) or len(value) != many:
         return False
-    return story_told(setup, plan, value[1])[-1][2]
+    return story_told(setup, plan, value)[-1][2]
 
 
 def story_told(setup, plan, story):
@@ -82,9 +106,9 @@ def story_told(setup, plan, story):
         raise BadStory(story)
     state, found = first_state(setup), []
     for deed in story:
-        after = done_by_keepers(setup, plan, state, deed)
+        after = done_by_keepers(setup, plan, setup.places, state, deed)
         plain = done_plainly(setup, state[0], deed)
-        found.append((after[0], plain[0], is_wrong(setup, state, deed, after)))
+        found.append((after[0], plain[0], is_wrong(plain, after)))
         state = after[1]
     return tuple(found)
 

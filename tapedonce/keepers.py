@@ -8,12 +8,15 @@ from tapedonce.tallies import DEEPEST_CALL
 
 
 class Keepers:
-    """The keepers of all works of a setup, upon one world: they tell calls by a plan."""
+    """The keepers of all works of a setup, each with so much room, upon one world: they tell calls by a plan."""
 
-    def __init__(self, setup, plan, state):
+    def __init__(self, setup, plan, room, state):
         self.of_setup = setup
         self.by_plan = plan
         self.scene = Scene(setup.world, state[0])
+        # Stays so behind runs that are off, too: what was taped there is taken back, but was taped.
+        self.has_taped = False
+        self._room = room
         self._texts = state[1]
 
     def left(self):
@@ -30,6 +33,7 @@ class Keepers:
             told = self.told_by_tape(text, values, depth)
             if told is not None:
                 return told
+        self.has_taped = True
         told, text = taping_run(self, number, values, depth)
         if text is not None:
             self._keep(number, text)
@@ -49,8 +53,13 @@ class Keepers:
         texts = self._texts[number]
         if text in texts:
             return
-        texts = (texts + (text,))[-self.of_setup.places:]
+        texts = newest(texts + (text,), self._room)
         self._texts = self._texts[:number] + (texts,) + self._texts[number + 1:]
+
+
+def newest(texts, room):
+    """The tapes of a keeper that are left if the eldest go until there is room."""
+    return texts[max(0, len(texts) - room):]
 
 
 def without_tapes(setup, stand):
@@ -58,10 +67,15 @@ def without_tapes(setup, stand):
     return stand, tuple([() for _ in setup.works])
 
 
-def done_by_keepers(setup, plan, state, deed):
-    """What a deed tells and leaves, by keepers; all is known to be as it should."""
+def done_by_keepers(setup, plan, room, state, deed):
+    """What a deed tells and leaves, by keepers with so much room; all is known to be as it should."""
+    return done_and_taped(setup, plan, room, state, deed)[:2]
+
+
+def done_and_taped(setup, plan, room, state, deed):
+    """Likewise, and whether the deed tapes."""
     if deed[0] == "change":
-        return None, (with_thing(setup.world, state[0], deed[1], deed[2]), state[1])
-    keepers = Keepers(setup, plan, state)
+        return None, (with_thing(setup.world, state[0], deed[1], deed[2]), state[1]), False
+    keepers = Keepers(setup, plan, room, state)
     told = keepers.told_by_keeper(deed[1], deed[2], 1)
-    return told, keepers.left()
+    return told, keepers.left(), keepers.has_taped

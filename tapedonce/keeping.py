@@ -20,7 +20,7 @@ def kept(setup, plan, state, deed):
         raise BadState(state)
     if not is_deed(setup, deed):
         raise BadDeed(deed)
-    return done_by_keepers(setup, plan, state, deed)
+    return done_by_keepers(setup, plan, setup.places, state, deed)
 
 
 def run_tape(setup, plan, state, tape, values):
@@ -32,7 +32,7 @@ def run_tape(setup, plan, state, tape, values):
         raise BadTape(tape)
     if not are_values(setup.world, tape.kinds, values):
         raise BadValues(values)
-    keepers = Keepers(setup, plan, state)
+    keepers = Keepers(setup, plan, setup.places, state)
     told = keepers.told_by_tape((tape.steps, tape.end), values, 1)
     return told, keepers.left()
 

@@ -19,7 +19,7 @@ def taped(setup, plan, stand, name, values):
     kinds = setup.works[number][2]
     if not are_values(setup.world, kinds, values):
         raise BadValues(values)
-    keepers = Keepers(setup, plan, without_tapes(setup, stand))
+    keepers = Keepers(setup, plan, setup.places, without_tapes(setup, stand))
     told, text = taping_run(keepers, number, values, 1)
     if text is None:
         return told, keepers.scene.stand, None

@@ -1,7 +1,9 @@
 """Worlds, which lie outside of works, and setups of works in a world."""
 
 from tapedonce.errors import BadSetup, BadWorld
-from tapedonce.forms import are_items, are_kinds, are_names, are_rising, is_most, is_name, is_size, is_whole
+from tapedonce.forms import (
+    are_items, are_kinds, are_names, are_pairs, are_rising, is_most, is_name, is_size, is_whole,
+)
 
 MOST_CELLS = 2
 MOST_ROWS = 2
@@ -109,21 +111,12 @@ class Setup:
         return self._numbers.get(value)
 
 
-def _are_pairs(value, most):
-    """Whether value is a tuple of at most so many pairs that begin with rising names."""
-    if not isinstance(value, tuple) or len(value) > most:
-        return False
-    if not all([isinstance(pair, tuple) and len(pair) == 2 and is_name(pair[0]) for pair in value]):
-        return False
-    return are_rising([pair[0] for pair in value])
-
-
 def _are_cells(value, size):
-    return _are_pairs(value, MOST_CELLS) and all([is_whole(cell[1], 0, size) for cell in value])
+    return are_pairs(value, MOST_CELLS) and all([is_whole(cell[1], 0, size) for cell in value])
 
 
 def _are_rows(value, size, most, cells):
-    if not _are_pairs(value, MOST_ROWS) or not all([are_items(row[1], size, most) for row in value]):
+    if not are_pairs(value, MOST_ROWS) or not all([are_items(row[1], size, most) for row in value]):
         return False
     taken = [cell[0] for cell in cells]
     return all([row[0] not in taken for row in value])

@@ -28,6 +28,8 @@ class Field:
         self.scripts, self.kinds, self.room = scripts, kinds, room
         self.cells, self.rows = dict(world.cells), {name: list(items) for name, items in world.rows}
         self.tapes = {name: [] for name in sorted(scripts)}
+        # One list for all twins: what was taped in a run that is off was taped.
+        self.taped = []
         if state is not None:
             self.lay(state[0])
             self.tapes = {name: list(texts) for name, texts in zip(sorted(scripts), state[1], strict=True)}
@@ -452,6 +454,7 @@ def by_keeper(field, plan, name, values, depth):
         told = by_tape(field, plan, text, values, depth)
         if told is not None:
             return told
+    field.taped.append(name)
     told, text = taping(field, plan, name, values, depth)
     if text is not None and text not in field.tapes[name]:
         field.tapes[name].append(text)
@@ -462,6 +465,11 @@ def by_keeper(field, plan, name, values, depth):
 
 def reckoned_kept(world, scripts, kinds, room, plan, state, deed):
     """What kept tells."""
+    return reckoned_deed(world, scripts, kinds, room, plan, state, deed)[:2]
+
+
+def reckoned_deed(world, scripts, kinds, room, plan, state, deed):
+    """What kept tells, and whether the deed tapes."""
     field = Field(world, scripts, kinds, room, state)
     told = None
     if deed[0] == "call":
@@ -470,7 +478,7 @@ def reckoned_kept(world, scripts, kinds, room, plan, state, deed):
         field.cells[deed[1]] = deed[2]
     else:
         field.rows[deed[1]] = list(deed[2])
-    return told, field.state()
+    return told, field.state(), len(field.taped) > 0
 
 
 def reckoned_plainly(world, scripts, kinds, stand, deed):

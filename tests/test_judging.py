@@ -11,9 +11,9 @@ from tapedonce.numbers import Number
 from tapedonce.plain import plainly
 from tapedonce.plans import Plan
 from tapedonce.worlds import Setup, World
+from tests.drawn import drawn_setups
 from tests.making import Refusing
-from tests.reckoning import reckoned_kept, reckoned_plainly
-from tests.scripts import GUARDS, Maker, work_of
+from tests.reckoning import reckoned_plainly
 from tests.values import any_values
 
 BARE = World(2, 1, (), ())
@@ -23,64 +23,12 @@ def guarded(hand, x):
     return [0, 1][int(hand.holds(x == 0, "g"))]
 
 
-class Reckoned:
-    """A search of the tests' own through all states, by their reckoning of keepers and plain runs."""
-
-    def __init__(self, world, scripts, kinds, setup, plan):
-        self.world, self.scripts, self.kinds, self.setup, self.plan = world, scripts, kinds, setup, plan
-
-    def after(self, state, deed):
-        return reckoned_kept(self.world, self.scripts, self.kinds, self.setup.places, self.plan, state, deed)
-
-    def is_wrong(self, state, deed):
-        if deed[0] == "change":
-            return False
-        told, after = self.after(state, deed)
-        return (told, after[0]) != reckoned_plainly(self.world, self.scripts, self.kinds, state[0], deed)
-
-    def found(self, most):
-        """("right", states), ("wrong", how many deeds, the last deeds that may be), or None if there are too many."""
-        level = met = [(self.world.first, ((),) * len(self.kinds))]
-        for many in itertools.count():
-            if len(met) > most:
-                return None
-            wrong = [(state, deed) for state in level for deed in self.setup.deeds if self.is_wrong(state, deed)]
-            if wrong:
-                return "wrong", many + 1
-            behind = []
-            for state, deed in itertools.product(level, self.setup.deeds):
-                after = self.after(state, deed)[1]
-                if after not in met and after not in behind:
-                    behind.append(after)
-            if not behind:
-                return "right", tuple(sorted(met))
-            level, met = behind, met + behind
-
-
 class Searched(unittest.TestCase, Refusing):
     """Small setups made by chance, all states of which are searched by the tests, too."""
 
-    worlds = [
-        World(2, 1, (("c", 1),), (), ("c",)), World(3, 1, (), (("p", (1,)),)), World(2, 1, (("c", 0), ("d", 1)), ()),
-        World(2, 1, (("c", 0),), (("p", ()),), ("c", "p")), World(3, 2, (("c", 2),), ()),
-    ]
-
-    def setups(self):
-        for seed in range(130):
-            world = self.worlds[seed % 5]
-            rows = "r" if world.rows else "n"
-            kinds = [{"w": "n"}, {"v": rows}, {"v": "", "w": "n"}][seed % 3]
-            maker = Maker(seed, world.size, [name for name, _ in world.cells], [name for name, _ in world.rows], kinds)
-            scripts = {name: maker.script(name, 3) for name in kinds}
-            works = tuple((name, work_of(world.size, scripts[name]), kinds[name]) for name in kinds)
-            guards = GUARDS if seed % 4 else ()
-            plan = Plan(guards, known=seed % 7 < 2, held=seed % 11 < 7, own=tuple(sorted(kinds))[:seed % 3])
-            setup = Setup(world, works, 1 + seed % 2)
-            yield setup, plan, Reckoned(world, scripts, kinds, setup, plan)
-
     def test_right_and_wrong(self):
         seen = {"right": 0, "wrong": 0}
-        for setup, plan, reckoned in self.setups():
+        for setup, plan, reckoned in drawn_setups(range(130)):
             told = reckoned.found(60)
             if told is None:
                 continue
