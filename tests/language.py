@@ -22,12 +22,15 @@ CALLABLE = (
     "NotImplementedError AttributeError StopIteration NotImplemented"
 ).split()
 
-METHODS = (
+FIRST_METHODS = (
     "append clear copy count endswith extend find get index insert isalnum isalpha isdigit islower isspace isupper "
     "items join keys ljust lower lstrip partition pop remove replace reverse rfind rjust rpartition rsplit rstrip "
-    "setdefault split splitlines startswith strip update upper values zfill bit_length title capitalize swapcase "
-    "casefold center expandtabs removeprefix removesuffix rindex isascii isdecimal isnumeric istitle isidentifier "
-    "isprintable translate maketrans encode decode hex fromhex to_bytes from_bytes add discard"
+    "setdefault split splitlines startswith strip update upper values zfill bit_length"
+).split()
+
+METHODS = FIRST_METHODS + (
+    "title capitalize swapcase casefold center expandtabs removeprefix removesuffix rindex isascii isdecimal isnumeric "
+    "istitle isidentifier isprintable translate maketrans encode decode hex fromhex to_bytes from_bytes add discard"
 ).split()
 
 SIGNS = (
@@ -237,6 +240,36 @@ def functions(tree):
                     yield node.lineno, "L5"
 
 
+def leavings(tree):
+    """L6: the rows of an __exit__ assign attributes and names to attributes, and ask kind alone, whether it is None."""
+    for node in ast.walk(tree):
+        if not isinstance(node, ast.FunctionDef) or node.name != "__exit__":
+            continue
+        rows = list(node.body)
+        while rows:
+            row = rows.pop()
+            if isinstance(row, ast.If):
+                if not re.fullmatch(r"kind is (not )?None", ast.unparse(row.test)):
+                    yield row.lineno, "L6"
+                rows += row.body + row.orelse
+            elif isinstance(row, ast.Assign):
+                targets = all(isinstance(target, ast.Attribute) for target in row.targets)
+                if not targets or not re.fullmatch(r"[a-z_.]+", ast.unparse(row.value)):
+                    yield row.lineno, "L6"
+            elif not isinstance(row, ast.Pass):
+                yield row.lineno, "L6"
+
+
+def setters(tree):
+    """L5: a property is assigned in no loop."""
+    settable = [node.name for node in ast.walk(tree) if isinstance(node, ast.FunctionDef) and any(
+        isinstance(mark, ast.Attribute) and mark.attr == "setter" for mark in node.decorator_list)]
+    for loop in ast.walk(tree):
+        for node in ast.walk(loop) if isinstance(loop, (ast.For, ast.While)) else ():
+            if isinstance(node, ast.Attribute) and isinstance(node.ctx, ast.Store) and node.attr in settable:
+                yield node.lineno, "L5"
+
+
 def classes(tree):
     """L5: what stands in a class."""
     for node in ast.walk(tree):
@@ -284,24 +317,25 @@ def operators(tree):
 
 
 def whole_package(trees):
-    """L5 and L18: names of properties, methods and attributes that do not go together, over all files."""
-    methods, properties, class_methods, attributes = set(), set(), set(), set()
+    """L5, L18 and L26: names of properties, methods and attributes that do not go together, over all files."""
+    methods, properties, class_methods, attributes, settable = set(), set(), set(), set(), set()
     for tree in trees:
         for node in ast.walk(tree):
             if isinstance(node, ast.Attribute) and isinstance(node.ctx, ast.Store):
                 attributes.add(node.attr)
             for part in node.body if isinstance(node, ast.ClassDef) else ():
                 if isinstance(part, ast.FunctionDef):
-                    marks = [getattr(mark, "id", "") for mark in part.decorator_list]
-                    {"property": properties, "classmethod": class_methods}.get("".join(marks), methods).add(part.name)
+                    marks = [getattr(mark, "id", getattr(mark, "attr", "")) for mark in part.decorator_list]
+                    kinds = {"property": properties, "classmethod": class_methods, "setter": settable}
+                    kinds.get("".join(marks), methods).add(part.name)
     yield from sorted((name, "a property and a method") for name in properties & (methods | class_methods))
-    yield from sorted((name, "a property and an attribute") for name in properties & attributes)
+    yield from sorted((name, "a property and an attribute") for name in (properties & attributes) - settable)
     yield from sorted((name, "a class method and a method") for name in class_methods & methods)
     yield from sorted((name, "a method and an attribute") for name in methods & attributes)
-    builtin = {name for value in ("", b"", 0, [], {}, ()) for name in dir(value)}
+    builtin = {name for value in ("", b"", 0, [], {}, ()) for name in dir(value) if not is_special(name)}
     allowed = {"count", "index", "title", "find", "get", "join", "lower", "upper", "split", "strip", "copy", "add"}
-    yield from sorted((name, "of builtin values") for name in (methods | class_methods | properties) & builtin
-                      if not is_special(name))
+    yield from sorted((name, "of builtin values") for name in (class_methods | properties) & builtin)
+    yield from sorted((name, "of builtin values") for name in (methods & builtin) - {*FIRST_METHODS})
     yield from sorted((name, "of builtin values") for name in attributes & builtin - allowed)
 
 
@@ -316,6 +350,6 @@ def breaches(text, own=()):
     tree = ast.parse(text)
     methods = [*own, *own_methods(tree)]
     found = [*sizes(text), *words(text), *calls(tree, methods)]
-    for check in (module_level, imports, statements, names, functions, classes, orders, operators):
+    for check in (module_level, imports, statements, names, functions, classes, orders, operators, leavings, setters):
         found += check(tree)
     return sorted({*found})

@@ -21,9 +21,16 @@ BROKEN = {
         "def told(xs):\n    return sorted(xs)\n",
         "def told(xs):\n    return max(xs)\n",
         "class Box:\n    def __add__(self, other):\n        other.many = 1\n        return self\n",
+        "class Box:\n    @property\n    def many(self):\n        return 1\n\n    @many.setter\n    def many(self, value):\n"
+        "        self.few = value\n\ndef told(box):\n    for k in range(2):\n        box.many = k\n",
         "class Box:\n    def __add__(self, other):\n        x = 1\n        x += other\n        return x\n",
     ],
-    "L6": ["def told():\n    global COUNT\n    return 1\n"],
+    "L6": [
+        "def told():\n    global COUNT\n    return 1\n",
+        "class Box:\n    def __exit__(self, kind, value, trace):\n        self.undo()\n",
+        "class Box:\n    def __exit__(self, kind, value, trace):\n        if self.kept:\n            self.many = self.ahead\n",
+        "class Box:\n    def __exit__(self, kind, value, trace):\n        self.many = self.ahead + 1\n",
+    ],
     "L7": [
         "def told():\n    return 1.5\n",
         "def told(x):\n    return x / 2\n",
