@@ -34,7 +34,7 @@ def shows_least_lot(world, kinds, work, plan, value):
     found = least_lot(world, kinds, work, plan)
     if not isinstance(value, tuple) or len(value) != len(found) or not are_alike(found[0], value[0]):
         return False
-    if found[0] == "lot" and not _are_same_tapes(found[1], value[1]):
+    if found[0] == "lot" and found[1] != value[1]:
         return False
     if not isinstance(value[-1], tuple) or len(value[-1]) != len(found[-1]):
         return False
@@ -76,13 +76,9 @@ def _key_otherwise(tables, plain):
     return None
 
 
-def _are_same_tapes(tapes, value):
-    return isinstance(value, tuple) and tapes == value
-
-
 def _shows_reason(plain, tapes, value):
     """Whether any value is some tapes, and a key at which their Lot tells otherwise than the plain runs."""
-    if not isinstance(value, tuple) or len(value) != 2 or not _are_same_tapes(tapes, value[0]):
+    if not isinstance(value, tuple) or len(value) != 2 or tapes != value[0]:
         return False
     key = value[1]
     if not is_key(plain.world, plain.kinds, key):

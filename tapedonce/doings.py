@@ -82,7 +82,6 @@ class Doing:
             return NotImplemented
         kinds, many = self._kinds + other.kinds, len(self._kinds)
         check_kinds(self._world, kinds, MOST_LETTERS)
-        check_few(self._world, kinds)
         return Doing(self._world, kinds, tuple([
             (*key, _behind(self[key[0], key[1], key[2][:many]], other, key[2][many:]))
             for key in all_keys(self._world, kinds)

@@ -187,10 +187,7 @@ class Trial:
     """A block in which a hall is used: behind it the hall is as ahead of it, if nothing is kept."""
 
     def __init__(self, hall):
-        self.past = hall.past
         self._hall = hall
-        self._ahead = hall.past
-        self._taken_back = hall
 
     @property
     def hall(self):

@@ -10,7 +10,7 @@ TRUTHS = ("no", "yes")
 def line_of_deed(deed):
     """The line of a call or a change."""
     if deed[0] == "change":
-        return f"change {thing_told(deed[1], deed[2])}"
+        return "change " + thing_told(deed[1], deed[2])
     return " ".join(["call", deed[1]] + [str(value) for value in deed[2]])
 
 
@@ -27,9 +27,8 @@ def line_of_room(room):
 
 def thing_told(name, thing):
     """A name, and the worth or the items that are under it."""
-    if not isinstance(thing, tuple):
-        return f"{name} {thing}"
-    return f"{name} {_joined([str(worth) for worth in thing])}"
+    told = _joined([str(worth) for worth in thing]) if isinstance(thing, tuple) else str(thing)
+    return f"{name} {told}"
 
 
 def read_line(line):

@@ -83,10 +83,9 @@ def _heights(ways):
 
 def _height(ways, heights, number):
     """The height of a state, as far as those of the next ones are known."""
-    ahead = [heights[target] for target in ways.onward[number]]
-    behind_taping = [heights[target] + 1 for target in ways.taping[number]]
-    # A 0 beside them: there may be no deeds that tape.
-    return max([int(height) for height in [0] + ahead + behind_taping])
+    onward = [heights[target] for target in ways.onward[number]]
+    taping = [heights[target] + 1 for target in ways.taping[number]]
+    return max([int(height) for height in onward + taping])
 
 
 def _story_of_most(ways, heights):
@@ -100,9 +99,8 @@ def _story_of_most(ways, heights):
 
 def _to_lower(ways, heights, number):
     """Deeds of which the last one alone tapes and leads to a state one lower; and the number of that."""
-    # No deed that tapes leads from a state to one as high, so that none of these stories tapes.
-    near = ways.stories_from(number, heights)
-    lower = heights[number] - 1
+    # What leads down by one from anywhere behind stands as high as this state, and so does all between them.
+    near, lower = ways.stories_from(number), heights[number] - 1
     found = [
         ((*near[at], deed), target)
         for at in near for target, deed in ways.taping[at].items() if heights[target] == lower

@@ -56,14 +56,14 @@ class Ways:
         """The number of the state that a deed leads to, and whether it tapes."""
         return self.leads[number][self._deed_numbers[deed]]
 
-    def stories_from(self, start, heights=None):
-        """For each state that can be reached a story of fewest deeds; perhaps by states of the start's height alone."""
+    def stories_from(self, start):
+        """For each state to which deeds lead from one a story of fewest deeds, the shortest stories first."""
         found, level = {start: ()}, [start]
         while level:
             behind = []
             for number in level:
                 for target, deed in self.onward[number].items():
-                    if target not in found and (heights is None or heights[target] == heights[start]):
+                    if target not in found:
                         found[target] = (*found[number], deed)
                         behind.append(target)
             level = behind

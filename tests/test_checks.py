@@ -181,6 +181,15 @@ class Least(unittest.TestCase, Refusing):
             self.raises(TooMany, "number", 6, least_checks, tape)
             self.raises(TooMany, "number", 6, shows_least_checks, tape, None)
 
+    def test_all_of_many_are_wanted(self):
+        steps = tuple(("guard", ("equal", ("arg", at), ZERO), True) for at in (0, 1, 2, 3, 0))
+        tape = Tape(BARE, "nnnn", steps, GIVES)
+        found = least_checks(tape)
+        ahead = list(itertools.takewhile(lambda numbers: numbers != (0, 1, 2, 3), subsets(range(5))))
+        self.assertEqual((found[0], [numbers for numbers, _ in found[1]]), ((0, 1, 2, 3), ahead))
+        self.assertEqual(len(ahead), 26)
+        self.assertTrue(shows_least_checks(tape, found))
+
     def test_what_is_no_value(self):
         checks = tuple(("guard", ("equal", ("arg", at), ZERO), True) for at in (0, 1, 0))
         tape = Tape(BARE, "nn", checks, GIVES)

@@ -150,7 +150,7 @@ class Lines(unittest.TestCase, Refusing):
             "call Guarded 0", "call abcdefghi", "change", "change c", "change c 0 1", "change c 0,", "change c ,", "change c -0", "change C 0", "change c x", "change p 0, 1", "change c 10",
             "plan g", "plan g no yes", "plan g no yes - -", "plan g no maybe -", "plan g, no yes -", "plan G no yes -", "plan abcdefghi no yes -", "room 12", "room -", "room one", "room 1 1", "room ",
             "undo ", " undo", "undo 1", "Undo", "redo 1", "redo ", "cells ", "cells c", "rows p", "rows ", "tapes", "tapes ", "tapes guarded shares", "tapes Guarded", "tapes 0", "tapes abcdefghi", "tapes  guarded",
-            "astray 0", "astray ", "many 1", "many ", "MANY", "hello", "tape guarded", "many\n", "\nmany", "call guarded \u0661", "undo redo", "x" * 20000,
+            "astray 0", "astray ", "many 1", "many ", "MANY", "hello", "tape guarded", "put c 0", "changed p -", "plans g no yes -", "set - no no -", "rooms 1", "many\n", "\nmany", "call guarded \u0661", "undo redo", "x" * 20000,
         ]
         desk = desk_of()
         desk.say_all(("call guarded 0", "change c 2", "undo"))

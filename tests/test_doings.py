@@ -106,6 +106,7 @@ class Making(unittest.TestCase, Refusing):
         good = ((("gives", 1), (1,), ((0,),)), (("faults", ("no",)), (0,), ((),)), (("faults", ("no", "zero", "abcdefgh")), (0,), ((),)), None)
         told = [value for value in any_values() if value is not None]
         told += [list(good[0]), good[0][:2], good[0] + ((),), (good[0],), (("gives", 2), (1,), ((0,),)), (("gives", True), (1,), ((0,),)), (("gives",), (1,), ((0,),))]
+        told += [(("gives", -1), (1,), ((0,),)), (("gave", ("no",)), (1,), ((0,),)), ((None, ("no",)), (1,), ((0,),)), (("Faults", ("no",)), (1,), ((0,),))]
         told += [(("gives", 0, 0), (1,), ((0,),)), (("gave", 0), (1,), ((0,),)), (["gives", 0], (1,), ((0,),)), (None, (1,), ((0,),)), (("gives", ("no",)), (1,), ((0,),))]
         told += [(("faults", words), (0,), ((),)) for words in ((), ("no",) * 4, ("No",), "no", ["no"], (1,), ("",), ("abcdefghi",), ("no", None), 0)]
         told += [(("gives", 0), worths, ((),)) for worths in ((), (0, 0), (2,), [0], 0, (True,), None)]
@@ -219,6 +220,14 @@ class Compared(unittest.TestCase):
         self.assertEqual(len(seen), 4)
         self.assertIs(doings[0] <= doings[1], True)
         self.assertIs(doings[1] > doings[0], True)
+
+    def test_other_worlds_and_kinds(self):
+        world = World(2, 1, (), (("p", ()),))
+        found = [Doing(world, kinds, table(world, kinds, lambda *key: None)) for kinds in ("", "n", "r")]
+        found.append(Doing(World(2, 1, (), (("p", (0,)),)), "n", found[1].table))
+        for one, other in itertools.permutations(found, 2):
+            self.assertEqual((one <= other, one < other, one >= other, one > other), (False,) * 4)
+            self.assertEqual((one <= one, one < one), (True, False))
 
     def test_least_keys(self):
         rows = table(WORLD, "rn", lambda worths, items, values: (("gives", 0), worths, items))

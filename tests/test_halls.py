@@ -619,7 +619,7 @@ class Journals(Halls):
             "change", "change c", "change c 0 1", "change c 0,", "change c ,0", "change c 0,,1", "change p 0, 1", "change c -1", "change c 10", "change p --", "change c c", "change C 0", "change c  0", "change c",
             "change p 0,a", "change 1 0", "change c \u00b2", "change c +1", "change c 0\n", "plan", "plan g no yes", "plan g no yes - -", "plan g no Yes -", "plan g no true -", "plan g 0 1 -", "plan , no yes -",
             "plan g, no yes -", "plan ,g no yes -", "plan g,,h no yes -", "plan G no yes -", "plan g no yes ", "plan g no yes", "plan  no yes -", "plan g1 no yes -", "plan abcdefghi no yes -", "plan g no yes guarded,",
-            "plan -,g no yes -", "plan g no yes -,-", "plan g - yes -", "plan g no - -", "room", "room ", "room 01", "room -", "room 1 1", "room one", "room -1", "room 10", "room  1", "rooms 1", "undo", "redo", "cells",
+            "plan -,g no yes -", "plan g no yes -,-", "plan g - yes -", "plan g no - -", "room", "room ", "room 01", "room -", "room 1 1", "room one", "room -1", "room 10", "room  1", "rooms 1", "put c 0", "guarded c 0", "plans g no yes -", "guards g no yes -", "rooms 1", "undo", "redo", "cells",
             "rows", "many", "astray", "tapes guarded", "plan g", "calls guarded 0", "x" * 20000, "call " + "guarded " * 900, "change c " + "0," * 900,
         ]
         self.refuse_lines(wrong)

@@ -782,6 +782,25 @@ class NoTape(Written):
             self.assertIsNotNone(tape_of(work, "n", (x,), G)[2], k)
             self.none(lambda hand, x: way(hand, x, 9), None, "n", ({5: 0, 7: 1}.get(k, 3),), G)
 
+    def test_a_condition_same_is_one_deep(self):
+        def work(depth):
+            def asks(hand, row):
+                truth = hand.same(row, hand.row("p"))
+                for _ in range(depth - 1):
+                    truth = truth ^ True
+                hand.holds(truth, "g")
+                return 0
+            return asks
+
+        for name in ("p", "q"):
+            steps = tape_of(work(8), "r", (name,), G)[2].steps
+            condition, truth = steps[0][1:]
+            for _ in range(7):
+                self.assertEqual((condition[0], condition[2]), ("unlike", ("true",)))
+                condition = condition[1]
+            self.assertEqual((len(steps), condition, truth), (1, ("same", ("arg", 0), ("row", "p")), name == "q"))
+            self.none(work(9), None, "r", (name,), G)
+
     def test_a_guard_that_is_not_written_may_be_deep(self):
         work = lambda hand, x: int(hand.holds(self.deep(x, 20) == 1, "g")) * 0
         self.check(work, (), ("gives", ZERO), "n", (1,))

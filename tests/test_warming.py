@@ -213,6 +213,23 @@ class Deeds(unittest.TestCase):
         for state, story in told[1]:
             self.assertEqual(len(story), 1)
 
+    def test_a_long_way_to_what_tapes(self):
+        def look(hand):
+            # At 3 it has no tape, and elsewhere one that is off at 3.
+            return hand.fail("long") if hand.holds(hand.cell("c") == 3, "g") else 0
+
+        def step(hand):
+            hand.put("c", hand.cell("c") + 1)
+            return 0
+
+        setup, plan = Setup(World(4, 1, (("c", 0),), ()), (("look", look, ""), ("step", step, "")), 1), Plan(("g",))
+        found = warmed(setup, plan)
+        self.assertEqual(found[0], "never")
+        ways = {state: [deed[1] for deed in story] for state, story in found[1]}
+        full = [state for state in ways if all(state[1])]
+        self.assertEqual([ways[state] for state in sorted(full)], [["step"] * 3 + ["look"], ["step"] * 2 + ["look"], ["step", "look"], ["look"]])
+        self.assertEqual({len(ways[state]) for state in ways if state not in full}, {1})
+
     def test_wrong_deeds_go_on(self):
         setup = Setup(World(2, 1, (("c", 0),), ()), (("one", lambda hand: hand.put("c", 1 if hand.cell("c") == 0 else 0) or 0, ""), ("two", lambda hand: 0 if hand.cell("c") == 0 else 1, "")), 1)
         self.assertEqual(right(setup, Plan())[0], "wrong")
